@@ -1,0 +1,1 @@
+"""Cardplaces: books of places gone to."""
