@@ -73,3 +73,24 @@ class Book:
         self.rows = [self.rows[kept] for kept in spots]
         self.spot = spot
         return many
+
+
+class BookHolder:
+    def __init__(self, place, most):
+        self.book = Book(place, most)
+
+    def now(self):
+        return self.book.now()
+
+    def entries(self):
+        return self.book.entries()
+
+    def number(self):
+        return self.book.number()
+
+    def move(self, place, by):
+        # What is put off is kept as its place and how far to go for it, or None for a visit.
+        if by is None:
+            self.book.visit(place)
+        else:
+            self.book.go(by)

@@ -1,6 +1,6 @@
 """Guards: they let, stop, ask, or lead elsewhere; and books that ask them."""
 
-from cardplaces.books import Book
+from cardplaces.books import BookHolder
 from cardplaces.errors import NotAsked, Round
 from cardplaces.places import is_place, is_under
 
@@ -40,21 +40,12 @@ def verdict(guards, start, goal):
     return (word, goal)
 
 
-class GuardedBook:
+class GuardedBook(BookHolder):
     def __init__(self, place, most, guards):
-        self.book = Book(place, most)
+        BookHolder.__init__(self, place, most)
         self.guards = guards
-        # What waits: its place, and how far to go for it, or None for a visit.
+        # What waits, as move takes it.
         self.asked = None
-
-    def now(self):
-        return self.book.now()
-
-    def entries(self):
-        return self.book.entries()
-
-    def number(self):
-        return self.book.number()
 
     def waits(self):
         return None if self.asked is None else self.asked[0]
@@ -85,9 +76,3 @@ class GuardedBook:
         elif ruling[0] == "ask":
             self.asked = (ruling[1], by)
         return ruling[0]
-
-    def move(self, place, by):
-        if by is None:
-            self.book.visit(place)
-        else:
-            self.book.go(by)
