@@ -14,10 +14,14 @@ def is_word(thing):
     return 1 <= len(thing) <= MOST_LETTERS and all([is_letter(sign) for sign in thing])
 
 
+def is_too_long(words):
+    return len(words) > MOST_WORDS
+
+
 def is_place(thing):
     if not isinstance(thing, tuple):
         return False
-    return len(thing) <= MOST_WORDS and all([is_word(part) for part in thing])
+    return not is_too_long(thing) and all([is_word(part) for part in thing])
 
 
 def is_under(place, other):
@@ -34,7 +38,7 @@ def led(place, steps):
         elif step != ".":
             words.append(step)
             # Later steps up don't mend this: each step must lead to a place.
-            if len(words) > MOST_WORDS:
+            if is_too_long(words):
                 return None
     return tuple(words)
 

@@ -26,6 +26,8 @@ WORDS_NOWHERE = re.compile(r"\b(type|typing|typing_extensions|enum|Enum|IntEnum|
                            r"dataclass|overload|contextmanager")
 NAMES_NOWHERE = {"register", "mro", "elements", "open", "input", "version_info", "with_traceback", "add_note"}
 WALKED_AT_ONCE = {"zip", "enumerate", "reversed", "range"}
+KEYWORDS = {"sorted": {"key", "reverse"}, "min": {"key", "default"}, "max": {"key", "default"}, "sum": {"start"},
+            "enumerate": {"start"}, "zip": {"strict"}}
 
 
 def nodes_of(path, *kinds):
@@ -152,6 +154,45 @@ class LanguageTest(unittest.TestCase):
                 self.assertIn(name, OWN_NAMES, where)
             if isinstance(node, ast.arg) or isinstance(getattr(node, "ctx", None), ast.Store):
                 self.assertTrue(isinstance(node, ast.Attribute) or name not in dir(builtins), where)
+
+    def test_no_local_is_called_like_a_class_or_an_import(self):
+        for path in FILES:
+            taken = {name.name for node in nodes_of(path, ast.ImportFrom) for name in node.names}
+            taken |= {node.name for node in nodes_of(path, ast.ClassDef)}
+            for node in nodes_of(path, ast.Name, ast.arg):
+                if isinstance(node, ast.arg) or isinstance(node.ctx, ast.Store):
+                    name = node.arg if isinstance(node, ast.arg) else node.id
+                    self.assertNotIn(name, taken, f"{path.name}:{node.lineno}")
+
+    def test_what_a_file_holds_is_only_read(self):
+        for path in FILES:
+            tree = ast.parse(path.read_text(encoding="ascii"))
+            held = {node.targets[0].id for node in tree.body if isinstance(node, ast.Assign)}
+            for node in nodes_of(path, ast.Attribute, ast.Subscript):
+                if isinstance(node.value, ast.Name) and node.value.id in held:
+                    self.assertIsInstance(node, ast.Subscript, f"{path.name}:{node.lineno}")
+                    self.assertIsInstance(node.ctx, ast.Load, f"{path.name}:{node.lineno}")
+
+    def test_keywords(self):
+        for where, node in self.each(ast.Call):
+            for keyword in node.keywords:
+                self.assertIsInstance(node.func, ast.Name, where)
+                self.assertIn(keyword.arg, KEYWORDS.get(node.func.id, set()), where)
+
+    def test_sets_are_not_kept(self):
+        for path in FILES:
+            let = set()
+            for node in nodes_of(path, ast.Call):
+                if getattr(node.func, "id", "") in ("sorted", "len") and not node.keywords:
+                    let |= {ast.unparse(part) for part in node.args}
+            for node in nodes_of(path, ast.Call, ast.Set):
+                if isinstance(node, ast.Set) or getattr(node.func, "id", "") in ("set", "frozenset"):
+                    self.assertIn(ast.unparse(node), let, f"{path.name}:{node.lineno}")
+
+    def test_no_escapes_but_those_that_are_let(self):
+        for path in FILES:
+            text = path.read_text(encoding="ascii").replace("\\\\", "")
+            self.assertIsNone(re.search(r"\\[^nt'\"]", text), path.name)
 
     def test_methods_and_values(self):
         methods = {name for path in FILES for name in methods_of(path)}
